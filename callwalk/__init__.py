@@ -1,0 +1,1 @@
+"""Callwalk: programs with calls within calls, and all that they can come to."""
