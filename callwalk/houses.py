@@ -22,9 +22,9 @@ def steps(house, standing):
     return [(number, stepped(rule, standing)) for number, rule in enumerate(house[2]) if fits(rule, standing)]
 
 
-# A dict, so that a house with many rules does not look through all the heads for each of them.
-def marked(heads):
-    return dict([(head, True) for head in heads])
+# A dict, so that to ask whether something is among many things does not look through them all.
+def marked(things):
+    return dict([(thing, True) for thing in things])
 
 
 def stuck_heads(house):

@@ -4,6 +4,9 @@ import copy
 import unittest
 
 from callwalk.houses import cut, steps, stuck_heads
+from callwalk.machines import common, is_plain, takes
+from callwalk.making import ending, heading, joining, listing
+from callwalk.prices import prices
 from callwalk.runs import ran, returns
 
 HOUSE = (2, 2, [
@@ -13,47 +16,92 @@ HOUSE = (2, 2, [
     (0, 0, 0, (0, 1)),
 ])
 
-# For each function, asked in several ways: what is handed in behind the house.
+# A plain machine, and one that is not.
+PLAIN = (4, [(0, 0, 2), (0, 0, 3), (0, 1, 2), (2, 1, 3), (3, 1, 3)], [1, 3])
+NOT_PLAIN = (3, [(0, 0, 1), (0, 1, 0), (1, 1, 2)], [2])
+
+# For each function, asked in several ways: what is handed in.
 ASKED = [
-    (steps, ((0, [0, 1, 1]),)),
-    (steps, ((0, []),)),
-    (steps, ((1, [0]),)),
-    (stuck_heads, ()),
-    (cut, ([(0, 0), (0, 0), (1, 1)],)),
-    (cut, ([(0, 0), (0, 1)],)),
-    (cut, ([],)),
-    (ran, ((0, [0, 1]), [])),
-    (ran, ((0, []), [])),
-    (ran, ((0, [0, 1]), [0, 1, 2])),
-    (returns, ((0, [0]), [0, 3, 1, 2, 1])),
-    (returns, ((0, [0]), [])),
+    (steps, (HOUSE, (0, [0, 1, 1]))),
+    (steps, (HOUSE, (0, []))),
+    (steps, (HOUSE, (1, [0]))),
+    (stuck_heads, (HOUSE,)),
+    (cut, (HOUSE, [(0, 0), (0, 0), (1, 1)])),
+    (cut, (HOUSE, [(0, 0), (0, 1)])),
+    (cut, (HOUSE, [])),
+    (ran, (HOUSE, (0, [0, 1]), [])),
+    (ran, (HOUSE, (0, []), [])),
+    (ran, (HOUSE, (0, [0, 1]), [0, 1, 2])),
+    (returns, (HOUSE, (0, [0]), [0, 3, 1, 2, 1])),
+    (returns, (HOUSE, (0, [0]), [])),
+    (takes, (PLAIN, (0, [0, 1, 1]))),
+    (takes, (PLAIN, (1, []))),
+    (takes, (NOT_PLAIN, (0, [1, 0, 0]))),
+    (is_plain, (HOUSE, PLAIN)),
+    (is_plain, (HOUSE, NOT_PLAIN)),
+    (common, (HOUSE, PLAIN, NOT_PLAIN)),
+    (common, (HOUSE, PLAIN, PLAIN)),
+    (common, (HOUSE, NOT_PLAIN, (2, [], []))),
+    (listing, (HOUSE, [(0, [1, 0]), (0, [1, 0]), (1, []), (1, [0, 1, 0])])),
+    (listing, (HOUSE, [])),
+    (heading, (HOUSE, [(1, 1), (0, 0), (1, 1)])),
+    (heading, (HOUSE, [])),
+    (ending, (HOUSE, [0, 1])),
+    (ending, (HOUSE, [1, 0, 1])),
+    (ending, (HOUSE, [])),
+    (joining, (HOUSE, PLAIN, (3, [(1, 0, 2)], [0, 2]))),
+    (joining, (HOUSE, PLAIN, (2, [], []))),
+    (joining, (HOUSE, (2, [], []), PLAIN)),
+    (prices, (HOUSE, PLAIN)),
+    (prices, (HOUSE, (2, [], []))),
+    (prices, ((2, 2, []), PLAIN)),
+]
+
+# For each refusal, asked in several ways: what is handed in.
+REFUSED = [(asked, (HOUSE, (0, [0, 1]), numbers)) for asked in (ran, returns)
+           for numbers in ([0, 1, 9], [0, 1, 1], [-1])] + [
+    (joining, (HOUSE, PLAIN, NOT_PLAIN)),
+    (joining, (HOUSE, NOT_PLAIN, PLAIN)),
+    (prices, (HOUSE, NOT_PLAIN)),
 ]
 
 
 def spoil(value):
-    if isinstance(value, tuple):
+    if isinstance(value, dict):
+        spoil(list(value.values()))
+        for key in list(value)[1:]:
+            value[key] = "spoilt"
+        value.pop(next(iter(value), None), None)
+        value["spoilt"] = True
+    if isinstance(value, (list, tuple)):
         for part in value:
             spoil(part)
     if isinstance(value, list):
-        for part in value:
-            spoil(part)
         value.reverse()
         value.append("spoilt")
 
 
-def lists_in(value):
-    found = [value] if isinstance(value, list) else []
+def kept_in(value):
+    # All lists and dicts in it.
+    found = [value] if isinstance(value, (list, dict)) else []
     if isinstance(value, (list, tuple)):
         for part in value:
-            found.extend(lists_in(part))
+            found.extend(kept_in(part))
+    if isinstance(value, dict):
+        found.extend(kept_in(list(value.items()))[1:])
     return found
+
+
+def apart(handed):
+    # Each part is copied by itself, so that none is the same list as another, even if one was handed in twice.
+    return tuple(copy.deepcopy(part) for part in handed)
 
 
 class Asker(unittest.TestCase):
     def each(self, check):
-        for asked, rest in ASKED:
-            with self.subTest(asked=asked.__name__, rest=rest):
-                check(asked, copy.deepcopy((HOUSE,) + rest))
+        for asked, handed in ASKED:
+            with self.subTest(asked=asked.__name__, handed=handed):
+                check(asked, apart(handed))
 
     def test_what_is_handed_in_is_the_same_behind_the_call(self):
         def check(asked, handed):
@@ -63,13 +111,12 @@ class Asker(unittest.TestCase):
         self.each(check)
 
     def test_it_is_the_same_behind_a_refusal_too(self):
-        for asked in (ran, returns):
-            for numbers in ([0, 1, 9], [0, 1, 1], [-1]):
-                handed = copy.deepcopy((HOUSE, (0, [0, 1]), numbers))
-                before = copy.deepcopy(handed)
+        for asked, one in REFUSED:
+            with self.subTest(asked=asked.__name__, handed=one):
+                handed = apart(one)
                 with self.assertRaises(ValueError):
                     asked(*handed)
-                self.assertEqual(handed, before)
+                self.assertEqual(handed, one)
 
     def test_what_is_given_back_may_be_changed(self):
         def check(asked, handed):
@@ -99,10 +146,11 @@ class Asker(unittest.TestCase):
             self.assertEqual(given, expected)
         self.each(check)
 
-    def test_no_list_is_given_back_twice_or_is_one_handed_in(self):
+    def test_nothing_is_given_back_twice_or_is_what_was_handed_in(self):
         def check(asked, handed):
-            lists = lists_in(asked(*handed)) + lists_in(asked(*handed)) + lists_in(handed)
-            self.assertEqual(len({id(one) for one in lists}), len(lists))
+            kept = [asked(*handed), asked(*handed), handed]
+            told = kept_in(tuple(kept))
+            self.assertEqual(len({id(one) for one in told}), len(told))
         self.each(check)
 
     def test_a_house_that_was_changed_is_answered_as_it_is_now(self):
@@ -114,6 +162,22 @@ class Asker(unittest.TestCase):
         self.assertEqual(steps(house, (1, [0])), [(4, (0, []))])
         self.assertEqual(ran(house, (1, [0]), [4]), (0, []))
         self.assertEqual(cut(house, [(1, 0)]), (2, 2, [(1, 0, 0, ())]))
+
+    def test_a_machine_that_was_changed_is_answered_as_it_is_now(self):
+        house, machine = copy.deepcopy((HOUSE, PLAIN))
+        self.assertEqual((takes(machine, (1, [0])), is_plain(house, machine)), (False, True))
+        self.assertNotIn((1, 0, 2), prices(house, machine))
+        machine[1].insert(3, (1, 0, 2))
+        machine[2].insert(1, 2)
+        self.assertIs(takes(machine, (1, [0])), True)
+        self.assertEqual(prices(house, machine)[(1, 0, 2)], (0, None, None))
+        self.assertIs(takes(joining(house, machine, (2, [], [])), (1, [0])), True)
+        self.assertEqual(common(house, machine, (3, [(1, 0, 2)], [2])), (1, [0]))
+        machine[1].append((3, 1, 1))
+        self.assertIs(is_plain(house, machine), False)
+        house[2].append((1, 1, 1, ()))
+        machine[1].pop()
+        self.assertEqual(prices(house, machine)[(1, 1, 1)], (1, 4, None))
 
 
 if __name__ == "__main__":

@@ -1,9 +1,9 @@
 """Houses, heads and steps: points [3] to [5], callwalk/houses.py."""
 
-import itertools
 import unittest
 
 from callwalk.houses import cut, steps, stuck_heads
+from helper import standings
 
 # Heads with two rules, with one and with none; the same rule twice (0 and 4); puts of none, one and two signs.
 HOUSE = (2, 3, [
@@ -14,13 +14,6 @@ HOUSE = (2, 3, [
     (0, 0, 1, (1, 2)),
     (1, 0, 1, (0, 0)),
 ])
-
-
-def standings(house, longest):
-    for room in range(house[0]):
-        for length in range(longest + 1):
-            for stack in itertools.product(range(house[1]), repeat=length):
-                yield (room, list(stack))
 
 
 def told_steps(house, standing):
