@@ -1,8 +1,10 @@
-"""What several test files need: all short standings, houses and machines by chance, the form of a machine, time."""
+"""What several test files need: short standings, houses and machines by chance, runs, the form of a machine, time."""
 
 import contextlib
 import itertools
 import time
+
+from callwalk.houses import steps
 
 # Far above what is seen, so that a slow machine passes, and far below what a walk over too much would need.
 MOST_SECONDS = 25
@@ -35,6 +37,22 @@ def has_path(machine, state, stack):
     if not stack:
         return state in machine[2]
     return any(arrow[:2] == (state, stack[0]) and has_path(machine, arrow[2], stack[1:]) for arrow in machine[1])
+
+
+def levels(house, begin, most):
+    # For each number of steps up to the most, the standings to which runs of so many steps and of no fewer lead.
+    seen, here = {}, [begin]
+    for count in range(most + 1):
+        fresh = {(room, tuple(stack)): True for room, stack in here if (room, tuple(stack)) not in seen}
+        seen.update(fresh)
+        here = [(room, list(stack)) for room, stack in fresh]
+        yield here
+        here = [there for standing in here for number, there in steps(house, standing)]
+
+
+def doubling(signs, rooms=1):
+    # Each sign takes one step more than twice as many as the one below it to be gone: sign n takes 2 ** (n + 1) - 1.
+    return (rooms, signs, [(0, 0, 0, ())] + [(0, sign, 0, (sign - 1, sign - 1)) for sign in range(1, signs)])
 
 
 def check_form(test, house, machine):

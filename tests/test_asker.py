@@ -3,11 +3,14 @@
 import copy
 import unittest
 
+from callwalk.forward import forward, leak
+from callwalk.heads import head_steps, heads_of, ring, till
 from callwalk.houses import cut, steps, stuck_heads
 from callwalk.machines import common, is_plain, takes
 from callwalk.making import ending, heading, joining, listing
 from callwalk.prices import prices
 from callwalk.runs import ran, returns
+from callwalk.ways import least, pairs, way
 
 HOUSE = (2, 2, [
     (0, 0, 0, (0, 1)),
@@ -55,6 +58,29 @@ ASKED = [
     (prices, (HOUSE, PLAIN)),
     (prices, (HOUSE, (2, [], []))),
     (prices, ((2, 2, []), PLAIN)),
+    (least, (HOUSE, PLAIN, (0, [0, 0, 1]))),
+    (least, (HOUSE, PLAIN, (1, []))),
+    (least, (HOUSE, PLAIN, (1, [0]))),
+    (way, (HOUSE, PLAIN, (0, [0, 1, 1]))),
+    (way, (HOUSE, PLAIN, (0, [1, 1, 0]))),
+    (way, (HOUSE, PLAIN, (1, []), 0)),
+    (pairs, (HOUSE,)),
+    (pairs, ((2, 2, []),)),
+    (leak, (HOUSE, PLAIN)),
+    (leak, (HOUSE, NOT_PLAIN)),
+    (leak, (HOUSE, (2, [], [0]))),
+    (forward, (HOUSE, PLAIN)),
+    (forward, (HOUSE, (2, [], []))),
+    (forward, ((2, 2, []), PLAIN)),
+    (till, (HOUSE, [(0, 0), (0, 0), (1, 1)], [(0, 1), (1, 0), (0, 1)], (0, [0, 1]))),
+    (till, (HOUSE, [], [], (0, [0]))),
+    (head_steps, (HOUSE,)),
+    (head_steps, ((2, 2, []),)),
+    (heads_of, (HOUSE, (0, [0, 1]))),
+    (heads_of, (HOUSE, (1, [1, 0]))),
+    (heads_of, (HOUSE, (0, []))),
+    (ring, (HOUSE, (0, [0, 1]))),
+    (ring, (HOUSE, (1, [0]))),
 ]
 
 # For each refusal, asked in several ways: what is handed in.
@@ -63,6 +89,11 @@ REFUSED = [(asked, (HOUSE, (0, [0, 1]), numbers)) for asked in (ran, returns)
     (joining, (HOUSE, PLAIN, NOT_PLAIN)),
     (joining, (HOUSE, NOT_PLAIN, PLAIN)),
     (prices, (HOUSE, NOT_PLAIN)),
+    (least, (HOUSE, NOT_PLAIN, (0, [0]))),
+    (way, (HOUSE, NOT_PLAIN, (0, [0]))),
+    (way, (HOUSE, PLAIN, (1, [0, 1]))),
+    (way, (HOUSE, (2, [], [0]), (0, [1, 1]), 3)),
+    (forward, (HOUSE, NOT_PLAIN)),
 ]
 
 
@@ -178,6 +209,32 @@ class Asker(unittest.TestCase):
         house[2].append((1, 1, 1, ()))
         machine[1].pop()
         self.assertEqual(prices(house, machine)[(1, 1, 1)], (1, 4, None))
+
+    def test_what_runs_lead_to_is_answered_as_the_house_is_now(self):
+        house, machine, begin = copy.deepcopy((HOUSE, (2, [], [1]), (0, [1])))
+
+        def answers():
+            return (least(house, machine, begin), pairs(house), till(house, [(0, 1), (0, 0)], [(1, 0)], begin),
+                    head_steps(house)[(0, 0)], heads_of(house, begin), ring(house, begin))
+        self.assertEqual(answers(), (None, {(0, 0, 0): 1, (0, 1, 0): 2}, None, [(0, 0), (0, 1)], [(0, 0), (0, 1)],
+                                     [(0, 0)]))
+        self.assertIs(takes(forward(house, listing(house, [begin])), (1, [])), False)
+        house[2].append((0, 0, 1, (0,)))
+        house[2].append((1, 0, 1, ()))
+        given = answers()
+        self.assertEqual(given[0], 3)
+        self.assertEqual(given[1], {(0, 0, 0): 1, (0, 1, 0): 2, (1, 0, 1): 1, (0, 0, 1): 2, (0, 1, 1): 3})
+        self.assertEqual(given[2:5], (2, [(0, 0), (0, 1), (1, 0), (1, 1)], [(0, 0), (0, 1), (1, 0), (1, 1)]))
+        self.assertEqual(way(house, machine, begin), [2, 4, 5])
+        self.assertIs(takes(forward(house, listing(house, [begin])), (1, [])), True)
+        # And as the standing, the machine and the lists are now.
+        begin[1].insert(0, 0)
+        machine[2].pop()
+        self.assertIsNone(least(house, machine, begin))
+        self.assertEqual(way(house, ending(house, [0]), begin), [1, 2, 1])
+        house[2].clear()
+        self.assertEqual((pairs(house), head_steps(house), heads_of(house, begin), ring(house, begin)),
+                         ({}, {}, [(0, 0)], None))
 
 
 if __name__ == "__main__":
