@@ -73,7 +73,7 @@ def heads_of(house, standing):
 
 
 # The heads from which head steps come to an end, whichever are taken: first those that lead nowhere, then, again and
-# again, those that lead to such heads alone.
+# again, those that lead to such heads alone. So each stands behind all those to which its own head steps lead.
 def coming_to_an_end(among):
     left = dict([(head, len(ahead)) for head, ahead in among.items()])
     before = {}
@@ -99,9 +99,10 @@ def ring(house, standing):
     left = [head for head in among if head not in ended]
     if not left:
         return None
-    walk = []
+    walk = {}
     head = left[0]
     while head not in walk:
-        walk.append(head)
+        walk[head] = True
         head = [other for other in among[head] if other not in ended][0]
-    return walk[walk.index(head):]
+    heads = list(walk)
+    return heads[heads.index(head):]

@@ -3,12 +3,17 @@
 import copy
 import unittest
 
+from callwalk.asking import answer, choices, kept_out
+from callwalk.build import beginning, house_of, point_of
+from callwalk.errors import Endless
 from callwalk.forward import forward, leak
 from callwalk.heads import head_steps, heads_of, ring, till
 from callwalk.houses import cut, steps, stuck_heads
+from callwalk.lasting import failing, longest, tiers
 from callwalk.machines import common, is_plain, takes
 from callwalk.making import ending, heading, joining, listing
 from callwalk.prices import prices
+from callwalk.programs import read, shown
 from callwalk.runs import ran, returns
 from callwalk.ways import least, pairs, way
 
@@ -17,6 +22,15 @@ HOUSE = (2, 2, [
     (0, 0, 0, ()),
     (0, 1, 0, (0,)),
     (0, 0, 0, (0, 1)),
+])
+
+# No run goes on without end here.
+LASTING = (2, 3, [(0, 0, 0, (1, 2)), (0, 1, 1, ()), (1, 2, 0, ()), (0, 0, 0, (2,))])
+
+TEXT = "values 2 2; main: call f, any own, stop; f: fork 3, turn shared, call f, back"
+PROGRAM = (2, 2, [
+    ("main", [("call", "f"), ("any", "own"), ("stop",)]),
+    ("f", [("fork", 3), ("turn", "shared"), ("call", "f"), ("back",)]),
 ])
 
 # A plain machine, and one that is not.
@@ -81,6 +95,25 @@ ASKED = [
     (heads_of, (HOUSE, (0, []))),
     (ring, (HOUSE, (0, [0, 1]))),
     (ring, (HOUSE, (1, [0]))),
+    (tiers, (LASTING, (0, [0, 1, 0]))),
+    (tiers, (LASTING, (1, []))),
+    (longest, (LASTING, (0, [0, 1, 0]))),
+    (longest, (LASTING, (1, []))),
+    (failing, (LASTING, [(0, 1), (1, 1), (0, 1)], (0, [0, 2, 0]))),
+    (failing, (LASTING, [], (0, [0]))),
+    (failing, (HOUSE, [(0, 1), (0, 0)], (0, [0, 1]))),
+    (failing, (HOUSE[:2] + (HOUSE[2][:1] + HOUSE[2][2:],), [(1, 1)], (0, [0, 1]))),
+    (read, (TEXT,)),
+    (shown, (PROGRAM,)),
+    (point_of, (PROGRAM, "f", 2)),
+    (house_of, (PROGRAM,)),
+    (beginning, (PROGRAM,)),
+    (answer, (TEXT, "come f 3 1")),
+    (answer, (TEXT, "surely main 2")),
+    (choices, (TEXT, "come f 3 1")),
+    (choices, (TEXT, "come main 0", 0)),
+    (kept_out, (TEXT, "end")),
+    (kept_out, (TEXT, "come main 0 1")),
 ]
 
 # For each refusal, asked in several ways: what is handed in.
@@ -94,6 +127,16 @@ REFUSED = [(asked, (HOUSE, (0, [0, 1]), numbers)) for asked in (ran, returns)
     (way, (HOUSE, PLAIN, (1, [0, 1]))),
     (way, (HOUSE, (2, [], [0]), (0, [1, 1]), 3)),
     (forward, (HOUSE, NOT_PLAIN)),
+    (tiers, (HOUSE, (0, [1, 0, 1]))),
+    (longest, (HOUSE, (0, [1, 0, 1]))),
+    (point_of, (PROGRAM, "g", 0)),
+    (point_of, (PROGRAM, "f", 4)),
+    (point_of, (PROGRAM, "f", -1)),
+    (read, ([TEXT],)),
+    (answer, ([TEXT], "end")),
+    (answer, (TEXT, ["end"])),
+    (choices, (TEXT, ["end"])),
+    (kept_out, (TEXT, ["end"])),
 ]
 
 
@@ -235,6 +278,36 @@ class Asker(unittest.TestCase):
         house[2].clear()
         self.assertEqual((pairs(house), head_steps(house), heads_of(house, begin), ring(house, begin)),
                          ({}, {}, [(0, 0)], None))
+
+    def test_lasting_is_answered_as_the_house_is_now(self):
+        house, goal, begin = copy.deepcopy((LASTING, [(0, 2)], (0, [0])))
+        self.assertEqual(tiers(house, begin), {(0, 0): 1, (0, 1): 0, (0, 2): 0, (1, 2): 0})
+        self.assertEqual(longest(house, begin), 3)
+        self.assertEqual(failing(house, goal, begin), ("ended", 3))
+        house[2].append((0, 2, 1, (2,)))
+        self.assertEqual(tiers(house, begin), {(0, 0): 2, (0, 1): 0, (0, 2): 1, (1, 2): 0})
+        begin[1].append(1)
+        self.assertEqual(longest(house, begin), 4)
+        goal.append((0, 1))
+        self.assertIsNone(failing(house, goal, begin))
+        house[2].append((0, 1, 0, (1,)))
+        for asked in (tiers, longest):
+            self.assertRaises(Endless, asked, house, begin)
+
+    def test_a_program_that_was_changed_is_answered_as_it_is_now(self):
+        program = read(TEXT)
+        self.assertEqual(program, PROGRAM)
+        first = (shown(program), house_of(program), beginning(program))
+        program[2].insert(0, ("g", [("skip",), ("back",)]))
+        program[2][1][1][1] = ("any", "shared")
+        self.assertEqual(shown(program), TEXT.replace("2 2; main", "2 2; g: skip, back; main").replace("own", "shared"))
+        self.assertEqual(beginning(program), (0, [4]))
+        self.assertEqual((point_of(program, "g", 1), point_of(program, "main", 0)), (1, 2))
+        self.assertEqual(house_of(program)[:2], (2, 18))
+        self.assertEqual(house_of(program)[2][0], (0, 0, 0, (2,)))
+        # Nor does what was done to the program change what its text tells.
+        self.assertEqual(read(TEXT), PROGRAM)
+        self.assertEqual((shown(PROGRAM), house_of(PROGRAM), beginning(PROGRAM)), first)
 
 
 if __name__ == "__main__":

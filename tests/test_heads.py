@@ -6,18 +6,9 @@ import unittest
 from callwalk.forward import forward
 from callwalk.heads import head_steps, heads_of, ring, till
 from callwalk.houses import steps
-from callwalk.machines import common
-from callwalk.making import heading, listing
-from callwalk.ways import pairs
-from helper import doubling, in_seconds, levels, some_house
-
-
-def all_heads(house):
-    return [(room, sign) for room in range(house[0]) for sign in range(house[1])]
-
-
-def head(standing):
-    return (standing[0], standing[1][0]) if standing[1] else None
+from callwalk.making import listing
+from helper import (all_heads, check_ring, doubling, has_circle, head, heads_by_forward, in_seconds, levels,
+                    some_house, some_standing, steps_by_words)
 
 
 def till_by_runs(house, wanted, goal, begin, most):
@@ -34,24 +25,6 @@ def till_by_runs(house, wanted, goal, begin, most):
     return None
 
 
-def steps_by_words(house):
-    gone = pairs(house)
-    found = {}
-    for p, a, q, put in house[2]:
-        led = found.setdefault((p, a), set())
-        if len(put) == 1:
-            led.add((q, put[0]))
-        if len(put) == 2:
-            led.add((q, put[0]))
-            led.update({(r, put[1]) for r in range(house[0]) if (q, put[0], r) in gone})
-    return {start: sorted(led) for start, led in found.items()}
-
-
-def heads_by_forward(house, standing):
-    there = forward(house, listing(house, [standing]))
-    return [one for one in all_heads(house) if common(house, there, heading(house, [one])) is not None]
-
-
 def heads_in(house, machine):
     # The heads of what the machine takes: of the arrows from rooms, those from which arrows lead on to an end.
     before = {}
@@ -66,19 +39,6 @@ def heads_in(house, machine):
     return sorted({(start, sign) for start, sign, to in machine[1] if start < house[0] and to in ending_there})
 
 
-def has_circle(leading, heads):
-    for start in heads:
-        reached, due = set(), list(leading.get(start, []))
-        while due:
-            one = due.pop()
-            if one not in reached:
-                reached.add(one)
-                due.extend(leading.get(one, []))
-        if start in reached:
-            return True
-    return False
-
-
 def runs_on(house, begin, count):
     # Whether some run has so many steps.
     here = [begin]
@@ -88,10 +48,6 @@ def runs_on(house, begin, count):
             ahead.update({(room, tuple(stack)): True for number, (room, stack) in steps(house, standing)})
         here = [(room, list(stack)) for room, stack in ahead]
     return bool(here)
-
-
-def some_standing(chance, house, longest):
-    return (chance.randrange(house[0]), [chance.randrange(house[1]) for _ in range(chance.randrange(longest + 1))])
 
 
 class Till(unittest.TestCase):
@@ -311,16 +267,8 @@ class Ring(unittest.TestCase):
         leading, heads = steps_by_words(house), heads_by_forward(house, standing)
         self.assertEqual(given is not None, has_circle(leading, heads))
         if given is not None:
-            self.check_ring(leading, heads, given)
+            check_ring(self, leading, heads, given)
         return given
-
-    def check_ring(self, leading, heads, given):
-        self.assertIs(type(given), list)
-        self.assertGreater(len(given), 0)
-        self.assertEqual(len(set(given)), len(given))
-        self.assertLessEqual(set(given), set(heads))
-        for here, there in zip(given, given[1:] + given[:1]):
-            self.assertIn(there, leading[here])
 
     def test_none(self):
         house = (2, 4, [(0, 0, 0, (1, 2)), (0, 1, 1, ()), (1, 2, 0, (3,)), (0, 0, 0, (3,))])
